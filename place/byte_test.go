@@ -69,7 +69,7 @@ func TestByteOfSpaces(t *testing.T) {
 	bytes(t, made(t, "a =", way(1), "a =!"), 0, 0, 1, 2, 2, 6)
 }
 
-// P17.2: the column of a hyphen is behind the row's end, that of a cut row's end is the end.
+// P17.2: a row that ends by a hyphen ends at the column at which the hyphen stands, one that is cut behind its last cluster.
 func TestByteAtHyphensAndCuts(t *testing.T) {
 	bytes(t, made(t, "ab-cd", way(3), "ab-", "cd!"), 0, 0, 1, 2, 2)
 	bytes(t, made(t, "abc-d", way(3), "abc/", "d!"), 0, 0, 1, 2, 3)
